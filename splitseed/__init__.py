@@ -1,0 +1,1 @@
+"""Splitseed: draws for many hands from one seed."""
