@@ -7,6 +7,7 @@ LEAST_WIDTH = 4
 GREATEST_WIDTH = 64
 GREATEST_NUMBER = 2 ** 64 - 1
 FARTHEST = 63
+SIMPLE_WORDS = ("plus", "times", "cross", "fold", "rise", "turn", "lean")
 
 
 def check_width(width):
@@ -251,3 +252,22 @@ class Lean(Step):
 
     def levels(self):
         return 1
+
+
+def simple_step(word, number):
+    """The simple step of this word, made of any thing as number; None where no simple step has this word."""
+    if word == "plus":
+        return Plus(number)
+    if word == "times":
+        return Times(number)
+    if word == "cross":
+        return Cross(number)
+    if word == "fold":
+        return Fold(number)
+    if word == "rise":
+        return Rise(number)
+    if word == "turn":
+        return Turn(number)
+    if word == "lean":
+        return Lean(number)
+    return None

@@ -182,6 +182,19 @@ class Form(unittest.TestCase):
                     self.assertIsInstance(other, ast.Constant, where)
                     self.assertIn(other.value, (None, True, False), where)
 
+    def test_l23_iterated_at_once(self):
+        at_once = set()
+        for where, node in self.nodes(ast.For, ast.comprehension):
+            at_once.add(id(node.iter))
+        for where, node in self.nodes(ast.Call):
+            name = node.func.id if isinstance(node.func, ast.Name) else node.func.attr
+            if name in ("list", "tuple", "dict", "sorted", "sum", "any", "all", "enumerate", "zip", "min", "max", "join"):
+                at_once |= {id(argument) for argument in node.args}
+        for where, node in self.nodes(ast.Call):
+            name = node.func.id if isinstance(node.func, ast.Name) else node.func.attr
+            if name in ("zip", "enumerate", "reversed", "range", "items", "keys", "values"):
+                self.assertIn(id(node), at_once, where)
+
     def test_l18_classes_are_not_passed_on(self):
         classes = {node.name for where, node in self.nodes(ast.ClassDef)}
         allowed = set()
