@@ -64,6 +64,26 @@ def opposite_of(n, width):
 class Step:
     """What leads each number of a width to another one and back; not made by itself."""
 
+    def onward(self, number, width):
+        """The number of this width that a number of it is led to."""
+        raise NotImplementedError("Each kind of step leads onward in its own way.")
+
+    def backward(self, number, width):
+        """The number of this width that is led onward to this one."""
+        raise NotImplementedError("Each kind of step leads backward in its own way.")
+
+    def told(self):
+        """The step's word and what it is made of, as a tuple."""
+        raise NotImplementedError("Each kind of step is told in its own way.")
+
+    def words(self):
+        """The words by which the step is written, as a text."""
+        raise NotImplementedError("Each kind of step is written in its own way.")
+
+    def levels(self):
+        """How many steps stand within one another, this one counted too."""
+        raise NotImplementedError("Each kind of step has its own levels.")
+
 
 class Plus(Step):
     """Adds n."""

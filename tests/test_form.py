@@ -169,7 +169,8 @@ class Form(unittest.TestCase):
         for where, node in self.nodes(ast.Raise):
             if node.exc is not None:
                 self.assertIsInstance(node.exc, ast.Call, where)
-                self.assertIn(node.exc.func.id, errors, where)
+                # A class that is not made by itself has its methods in its body, but nothing to answer.
+                self.assertIn(node.exc.func.id, errors | {"NotImplementedError"}, where)
         for where, node in self.nodes(ast.ExceptHandler):
             kinds = node.type.elts if isinstance(node.type, ast.Tuple) else [node.type]
             for kind in kinds:
