@@ -42,15 +42,22 @@ class Case(unittest.TestCase):
         """The same value, of the same kinds in all parts: no truth for a number, no list for a tuple."""
         self.assertTrue(alike(found, wanted), f"found {found!r}, wanted {wanted!r}")
 
-    def refused(self, kind, fields, call, *things):
-        """The call is refused with just this kind; things in its fields are the very ones, no copies."""
+    def fields_of_refusal(self, kind, call, *things):
+        """The fields of the refusal of just this kind by which the call is refused."""
         try:
             found = call(*things)
         except errors.SeedError as refusal:
             self.assertIs(type(refusal), kind, f"{things!r}")
-            told = [getattr(refusal, name) for name in FIELDS[kind.__name__]]
-            self.assertEqual(len(told), len(fields))
-            for one, other in zip(told, fields):
-                self.assertTrue(one is other or isinstance(one, PLAIN) and alike(one, other), f"{one!r}, not {other!r}")
-        else:
-            self.fail(f"not refused: {things!r} gave {found!r}")
+            return [getattr(refusal, name) for name in FIELDS[kind.__name__]]
+        return self.fail(f"not refused: {things!r} gave {found!r}")
+
+    def refused(self, kind, fields, call, *things):
+        """The call is refused with just this kind; things in its fields are the very ones, no copies."""
+        told = self.fields_of_refusal(kind, call, *things)
+        self.assertEqual(len(told), len(fields))
+        for one, other in zip(told, fields):
+            self.assertTrue(one is other or isinstance(one, PLAIN) and alike(one, other), f"{one!r}, not {other!r}")
+
+    def refused_alike(self, kind, fields, call, *things):
+        """As refused, of fields that are made by the program and were not handed in."""
+        self.same(self.fields_of_refusal(kind, call, *things), fields)
