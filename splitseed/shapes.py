@@ -2,10 +2,10 @@
 
 from splitseed.digits import check_below, mixed, product, unmixed
 from splitseed.errors import NoNumber, NoShape, TooWide
-from splitseed.orders import MOST_RANKED, is_order, order_at, order_rank, orders_many
+from splitseed.orders import is_order, order_at, order_rank, orders_many
 from splitseed.sets import MOST_CHOICE, is_set, set_at, set_rank, sets_many
 from splitseed.shapeforms import GREATEST_HEIGHT, MOST_TIMES, is_bound, is_form
-from splitseed.shares import check_shares, first_of, share_at, shares_many
+from splitseed.shares import first_of, share_at, shares_many
 from splitseed.steps import check_number, check_within
 from splitseed.words import is_within
 
@@ -126,11 +126,11 @@ class Shares(Shape):
     """Choices by shares: into which share a number falls."""
 
     def __init__(self, shares):
-        check_shares(shares)
+        self.total = shares_many(shares)
         self.shares = tuple(shares)
 
     def numbers(self):
-        return shares_many(self.shares)
+        return self.total
 
     def height(self):
         return 0
@@ -161,11 +161,11 @@ class Orders(Shape):
     """Orders of so many things, by their ranks."""
 
     def __init__(self, many):
-        check_within(many, 0, MOST_RANKED)
+        self.total = orders_many(many)
         self.many = many
 
     def numbers(self):
-        return orders_many(self.many)
+        return self.total
 
     def height(self):
         return 0
@@ -198,11 +198,12 @@ class Sets(Shape):
     def __init__(self, many, size):
         check_within(many, 0, MOST_CHOICE)
         check_within(size, 0, many)
+        self.total = sets_many(many, size)
         self.many = many
         self.size = size
 
     def numbers(self):
-        return sets_many(self.many, self.size)
+        return self.total
 
     def height(self):
         return 0
@@ -235,12 +236,13 @@ class Pair(Shape):
     def __init__(self, one, other):
         check_inner_shape(one)
         check_inner_shape(other)
-        check_total(one.numbers() * other.numbers(), MOST_NUMBERS)
+        self.total = one.numbers() * other.numbers()
+        check_total(self.total, MOST_NUMBERS)
         self.one = one
         self.other = other
 
     def numbers(self):
-        return self.one.numbers() * self.other.numbers()
+        return self.total
 
     def height(self):
         return 1 + max(self.one.height(), self.other.height())
@@ -278,22 +280,20 @@ class Rows(Shape):
     def __init__(self, shape, many):
         check_inner_shape(shape)
         check_within(many, 0, MOST_TIMES)
-        check_total(product([shape.numbers()] * many), MOST_NUMBERS)
+        self.bases = (shape.numbers(),) * many
+        self.total = product(self.bases)
+        check_total(self.total, MOST_NUMBERS)
         self.shape = shape
         self.many = many
 
     def numbers(self):
-        return product(self.bases())
+        return self.total
 
     def height(self):
         return 1 + self.shape.height()
 
-    def bases(self):
-        """By which bases a number is unmixed to those of the single outcomes."""
-        return [self.shape.numbers()] * self.many
-
     def outcome(self, number):
-        return tuple([self.shape.outcome(single) for single in unmixed(number, self.bases())])
+        return tuple([self.shape.outcome(single) for single in unmixed(number, self.bases)])
 
     def how_many_for(self, thing):
         if not isinstance(thing, tuple) or len(thing) != self.many:
@@ -303,7 +303,7 @@ class Rows(Shape):
     def first_for(self, thing):
         if self.how_many_for(thing) == 0:
             return None
-        return mixed([self.shape.first_for(single) for single in thing], self.bases())
+        return mixed([self.shape.first_for(single) for single in thing], self.bases)
 
     def all_outcomes(self):
         return outcomes_by(self)

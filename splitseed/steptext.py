@@ -2,15 +2,8 @@
 
 from splitseed.chains import MOST_LEVELS, MOST_STEPS, Back, Chain
 from splitseed.errors import NoNumber, NoText
+from splitseed.reading import check_end, number_at, sign_at, word_at, words_of
 from splitseed.steps import GREATEST_NUMBER, SIMPLE_WORDS, simple_step
-from splitseed.words import plain_number
-
-
-def word_at(words, at):
-    """The word of this number; refused where the words have come to their end."""
-    if at == len(words):
-        raise NoText(at)
-    return words[at]
 
 
 def simple_at(words, at):
@@ -18,7 +11,7 @@ def simple_at(words, at):
     word = word_at(words, at)
     if word not in SIMPLE_WORDS:
         raise NoText(at)
-    number = plain_number(word_at(words, at + 1), GREATEST_NUMBER)
+    number = number_at(words, at + 1, 0, GREATEST_NUMBER)
     try:
         return simple_step(word, number), at + 2
     except NoNumber:
@@ -27,8 +20,7 @@ def simple_at(words, at):
 
 def chain_at(words, at, room):
     """The chain whose bracket stands here, of at most room levels, and the number of the word behind it."""
-    if word_at(words, at) != "(":
-        raise NoText(at)
+    sign_at(words, at, "(")
     at += 1
     if word_at(words, at) == ")":
         return Chain([]), at + 1
@@ -60,10 +52,7 @@ def step_at(words, at, room):
 
 def read_step(text):
     """The step that is written so, of any thing."""
-    if not isinstance(text, str):
-        raise NoText(0)
-    words = text.split(" ")
+    words = words_of(text)
     step, behind = step_at(words, 0, MOST_LEVELS)
-    if behind < len(words):
-        raise NoText(behind)
+    check_end(words, behind)
     return step
