@@ -85,6 +85,12 @@ FUNCTIONS = {
         "tally": "machine shape", "is_tally": "machine shape thing", "by_seeds": "machine shape path place",
         "by_places": "machine shape seed path", "takings": "machine shape path",
     },
+    "leaning": {
+        "swaps_tally": "many", "leaning": "bound width", "most_leaning": "bound width", "fair": "bound width",
+    },
+    "plans": {"plan_of": "scripts served=None"},
+    "plantext": {"show_plan": "plan", "read_plan": "text"},
+    "alone": {"alone": "machine seed plan name"},
 }
 
 
