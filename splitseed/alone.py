@@ -1,7 +1,7 @@
 """What comes of a single hand of a plan, without any other hand."""
 
 from splitseed.doing import row_done
-from splitseed.errors import Beyond, NoDepth, NoParts, NoSeed, Spent, TooDeep, TooMany
+from splitseed.errors import Beyond, NoDepth, NoParts, Spent, TooDeep, TooMany
 from splitseed.hands import hand_of
 from splitseed.plans import way_down
 
@@ -42,8 +42,7 @@ def done_or_refused(hand, row, name, at):
 
 def alone(machine, seed, plan, name):
     """What comes of each row of a hand of a plan, and the papers of the rows; of any things as seed and name."""
-    if not machine.is_seed(seed):
-        raise NoSeed(seed)
+    machine.check_seed(seed)
     path = plan.path_of(name)
     check_way(machine, plan, name)
     hand = lone_hand(machine, seed, path)

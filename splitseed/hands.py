@@ -1,6 +1,6 @@
 """Hands, which draw numbers, jump, are split and joined; a deed tells another hand and changes none."""
 
-from splitseed.errors import NoHand, NoJoin, NoSeed, Spent, TooDeep, TooMany
+from splitseed.errors import NoHand, NoJoin, Spent, TooDeep, TooMany
 from splitseed.machines import same_machine
 from splitseed.steps import check_within
 from splitseed.words import is_within
@@ -78,8 +78,7 @@ class Hand:
 
 def first_hand(machine, seed):
     """The hand of a machine and a seed of which all others come."""
-    if not machine.is_seed(seed):
-        raise NoSeed(seed)
+    machine.check_seed(seed)
     return Hand(machine, seed, (), 0, 0, ())
 
 

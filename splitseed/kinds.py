@@ -9,9 +9,11 @@ def all_alike(due, things):
 
 
 def alike(due, thing):
-    """Whether any thing is what is due: a whole number, or a list or a tuple of such things."""
+    """Whether any thing is what is due: a whole number, a text, or a list or a tuple of such things."""
     if isinstance(due, list):
         return isinstance(thing, list) and all_alike(due, thing)
     if isinstance(due, tuple):
         return isinstance(thing, tuple) and all_alike(due, thing)
+    if isinstance(due, str):
+        return isinstance(thing, str) and thing == due
     return is_whole(thing) and thing == due

@@ -62,6 +62,11 @@ class Machine:
         """Whether any thing is a seed of this machine."""
         return is_within(thing, 0, self.seeds() - 1)
 
+    def check_seed(self, thing):
+        """Refuses any thing that is no seed of this machine."""
+        if not self.is_seed(thing):
+            raise NoSeed(thing)
+
     def is_path(self, thing):
         """Whether any thing is a path of this machine."""
         if not isinstance(thing, tuple) or len(thing) > self.depth:
@@ -79,8 +84,7 @@ class Machine:
 
     def spot(self, seed, path, place):
         """The number whose figures are those of seed, path and place."""
-        if not self.is_seed(seed):
-            raise NoSeed(seed)
+        self.check_seed(seed)
         if not self.is_path(path):
             raise NoPath(path)
         if not self.is_place(place):

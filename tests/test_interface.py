@@ -3,10 +3,7 @@ body of its class itself."""
 
 import importlib
 import inspect
-import pathlib
 import unittest
-
-FOLDER = pathlib.Path(__file__).resolve().parent.parent / "splitseed"
 
 STEP = {"onward": "number width", "backward": "number width", "told": "", "words": "", "levels": ""}
 SHAPE = {
@@ -31,7 +28,7 @@ TABLE = {
 }
 
 # Each class with what it stands straight under, what it is made of (None where the document leaves this open), and
-# its methods. Modules that are not written yet are left out till they are.
+# its methods.
 CLASSES = {
     "steps": {
         "Step": ("object", None, STEP), "Plus": ("Step", "n", STEP), "Times": ("Step", "n", STEP),
@@ -91,6 +88,18 @@ FUNCTIONS = {
     "plans": {"plan_of": "scripts served=None"},
     "plantext": {"show_plan": "plan", "read_plan": "text"},
     "alone": {"alone": "machine seed plan name"},
+    "origins": {
+        "origin_of": "machine number", "numbers_of": "machine stretch", "covers": "machine stretch number",
+        "meeting": "machine one other", "is_meeting": "machine one other thing",
+    },
+    "trees": {
+        "all_paths": "plan", "name_at": "plan path", "family": "plan name", "way_between": "plan one other",
+        "upper_both": "plan one other", "show_tree": "plan",
+    },
+    "ledgers": {
+        "ledger": "machine seed plan", "whose": "machine seed plan number", "drawn_by": "machine seed plan number",
+    },
+    "deskwords": {"outcome_text": "outcome"},
 }
 
 
@@ -103,14 +112,9 @@ def parameters(function, own):
     return " ".join(found)
 
 
-def written(table):
-    """The modules of a table that are written."""
-    return [name for name in table if (FOLDER / f"{name}.py").exists()]
-
-
 class Interface(unittest.TestCase):
     def test_methods_stand_in_the_body_of_each_class_itself(self):
-        for module in written(CLASSES):
+        for module in CLASSES:
             for name, (base, made_of, methods) in CLASSES[module].items():
                 kind = getattr(importlib.import_module(f"splitseed.{module}"), name)
                 for method, takes in methods.items():
@@ -119,7 +123,7 @@ class Interface(unittest.TestCase):
                     self.assertEqual(parameters(kind.__dict__[method], True), takes, f"{module}.{name}.{method}")
 
     def test_classes_and_what_they_stand_under(self):
-        for module in written(CLASSES):
+        for module in CLASSES:
             for name, (base, made_of, methods) in CLASSES[module].items():
                 kind = getattr(importlib.import_module(f"splitseed.{module}"), name)
                 self.assertEqual([above.__name__ for above in kind.__bases__], [base], f"{module}.{name}")
@@ -128,7 +132,7 @@ class Interface(unittest.TestCase):
                     self.assertEqual(parameters(kind.__init__, True), made_of, f"{module}.{name}")
 
     def test_functions_and_what_they_take(self):
-        for module in written(FUNCTIONS):
+        for module in FUNCTIONS:
             for name, takes in FUNCTIONS[module].items():
                 function = getattr(importlib.import_module(f"splitseed.{module}"), name)
                 self.assertTrue(inspect.isfunction(function), f"{module}.{name}")
@@ -137,12 +141,11 @@ class Interface(unittest.TestCase):
 
     def test_what_stands_under_step_and_shape_is_in_the_table(self):
         for module, top in (("steps", "Step"), ("shapes", "Shape")):
-            if module in written(CLASSES):
-                for every in written(CLASSES):
-                    importlib.import_module(f"splitseed.{every}")
-                kind = getattr(importlib.import_module(f"splitseed.{module}"), top)
-                known = [name for table in CLASSES.values() for name, row in table.items() if row[0] == top]
-                self.assertEqual(sorted(below.__name__ for below in kind.__subclasses__()), sorted(known))
+            for every in CLASSES:
+                importlib.import_module(f"splitseed.{every}")
+            kind = getattr(importlib.import_module(f"splitseed.{module}"), top)
+            known = [name for table in CLASSES.values() for name, row in table.items() if row[0] == top]
+            self.assertEqual(sorted(below.__name__ for below in kind.__subclasses__()), sorted(known))
 
 
 if __name__ == "__main__":
